@@ -1,0 +1,1 @@
+"""Printed tables that leave repeated cells blank."""

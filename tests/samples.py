@@ -1,0 +1,145 @@
+"""Pages and tables for the tests, wrong values, and the definitions of the document worked out by trying everything."""
+
+from itertools import permutations, product
+
+PAGE = (("ann", "oslo", "1"), (None, None, "2"), (None, None, "3"), (None, "rome", "1"), ("bob", "rome", "1"))
+TABLE = (("ann", "oslo", "1"), ("ann", "oslo", "2"), ("ann", "oslo", "3"), ("ann", "rome", "1"), ("bob", "rome", "1"))
+
+# Values that no parameter takes, whatever it asks for.
+STRANGE = (None, "", "a", b"a", b"", "0", [], {}, {0: 1}, {0}, frozenset(), object(), int, len, range(2), ((((),),),))
+
+# Values that are neither pages nor tables.
+NO_ROWS = STRANGE + (
+    0, 1, -1, True, False, 10 ** 99, (),
+    [("a",)], (["a"],), (("a",), ["a"]), [["a"]], ("a",), ("a", "b"), (0,), (None,), ({},), (("a",), None),
+    ((),), ((), ()), (("a",), ()),
+    (("a", "b", "c", "d", "e", "f", "g"),), (("a",) * 6, ("a",) * 7),
+    (("a",),) * 61, (("a", "b"),) + ((None, "b"),) * 60,
+    (("",),), (("a", ""),), (("a" * 9,),), (("a", "b" * 9),), (("a" * 4000,),),
+    (("A",),), (("a b",),), ((" a",),), (("a\n",),), (("a-b",),), (("a_b",),), (("a,b",),), (("~",),),
+    (("\u00e9",),), (("\u0661",),), (("\u00b2",),), (("\uff41",),), (("`",),), (("{",),), (("/",),), ((":",),), (("@",),),
+    ((0,),), ((1,),), ((True,),), (("a", False),), ((b"a",),), (("a", b"b"),), ((("a",),),), ((["a"],),), (({},),),
+    (("a", None),), (("a", "b"), ("a", None)), (("a", "b", "c"), ("a", None, "c")), (("a", "b", "c"), (None, "b", None)),
+    ((None,),), ((None, None),), ((None, "a"),), ((None, "a"), ("b", "c")), ((None, None), ("b", "c")),
+    (("a", "b"), ("a",)), (("a",), ("a", "b")), (("a", "b"), (None,)), (("a",), (None, None)), (("a", "b"), (None, "b", "c")),
+    ((None, None), ("a",)),
+)
+
+# Pages with blanks: no tables.
+WITH_BLANKS = (
+    PAGE,
+    (("a",), (None,)),
+    (("a", "b"), (None, "c")),
+    (("a", "b"), (None, None)),
+    (("a",) * 6,) + ((None,) * 6,) * 59,
+    (("a", "b"),) + (("a", "c"),) * 58 + ((None, "d"),),
+)
+
+# Tables, which are pages too.
+WITHOUT_BLANKS = (
+    TABLE,
+    (("a",),),
+    (("0",), ("9",), ("z",)),
+    (("abcdefgh", "ijklmnop", "qrstuvwx", "yz012345", "6789", "a"),),
+    (("12345678",),) * 60,
+    (("a", "b", "c", "d", "e", "f"),) * 60,
+)
+
+NO_NUMBERS = STRANGE + (True, False, -1, -10 ** 99, (), (0,), [0], "1", "zero")
+
+
+def meaning(rows):
+    """What rows mean: each cell is the nearest printed one in its column, itself or above; None if there is none."""
+    return [tuple(nearest(rows, row, column) for column in range(len(rows[row]))) for row in range(len(rows))]
+
+
+def nearest(rows, row, column):
+    while row >= 0:
+        if rows[row][column] is not None:
+            return rows[row][column]
+        row -= 1
+    return None
+
+
+def blank_counts(page):
+    return [row.count(None) for row in page]
+
+
+def common(one, other):
+    return max(many for many in range(len(one) + 1) if one[:many] == other[:many])
+
+
+def tables_of(rows, many):
+    """All tables of so many of the given full rows."""
+    return list(product(rows, repeat=many))
+
+
+def pages_meaning(table):
+    """All pages that mean a table, by the lists of their numbers of blanks, found by trying all numbers."""
+    width = len(table[0])
+    found = []
+    for counts in product(range(width + 1), repeat=len(table)):
+        page = tuple((None,) * many + row[many:] for many, row in zip(counts, table))
+        if counts[0] == 0 and meaning(page) == list(table):
+            found.append(page)
+    return found
+
+
+def small_tables():
+    """All small tables of some kinds, with equal rows too."""
+    pairs = list(product("ab", repeat=2))
+    tables = [table for many in (1, 2, 3, 4) for table in tables_of(pairs, many)]
+    tables += [table for many in (1, 2, 3, 4, 5) for table in tables_of([("a",), ("b",)], many)]
+    tables += tables_of([("a", "x", "1"), ("a", "x", "2"), ("a", "y", "1"), ("b", "x", "1")], 3)
+    return tables
+
+
+def small_pages():
+    """All pages that mean the small tables, and some of five and six rows."""
+    larger = (PAGE, PAGE + ((None, None, None),), PAGE[:4] + ((None, None, "2"), ("ann", "oslo", "1")))
+    return [page for table in small_tables() for page in pages_meaning(table)] + list(larger)
+
+
+def keeping_orders(page):
+    """All orders that keep a page, by reading the rows anew in every order."""
+    table = meaning(page)
+    found = []
+    for order in permutations(range(len(page))):
+        read = meaning([page[row] for row in order])
+        if all(read[place] == table[row] for place, row in enumerate(order)):
+            found.append(order)
+    return found
+
+
+def sequence(page):
+    return sorted(range(len(page)), key=lambda row: (blank_counts(page)[row], row))
+
+
+def hosts(page, row):
+    ahead = sequence(page)[:sequence(page).index(row)]
+    blanks = blank_counts(page)[row]
+    if blanks == 0:
+        return [None] + ahead
+    table = meaning(page)
+    return [other for other in ahead if common(table[other], table[row]) >= blanks]
+
+
+def code(page, order):
+    """The code of an order, row by row in the sequence, with the rows behind left out."""
+    found = []
+    for row in sequence(page):
+        behind = sequence(page)[sequence(page).index(row) + 1:]
+        left = [None] + [other for other in order if other not in behind]
+        found.append(hosts(page, row).index(left[left.index(row) - 1]))
+    return found
+
+
+def long_page():
+    """A page of 60 rows with equal rows, all-blank rows, and rows that have fewer blanks than they could."""
+    rows = [("n" + str(k // 20), "c" + str(k // 7), "p" + str(k // 3), "q" + str(k // 2)) for k in range(60)]
+    page = [rows[0]]
+    for k in range(1, 60):
+        most = common(rows[k - 1], rows[k])
+        blanks = most if k in (1, 3, 59) else most * (k * 7 + 3) // 11 % (most + 1)
+        page.append((None,) * blanks + rows[k][blanks:])
+    return tuple(page)

@@ -1,0 +1,119 @@
+"""[2] and the head of the interface: names, parameters, arguments that stay as they are, new lists."""
+
+import copy
+import importlib
+import inspect
+import unittest
+
+from dittorows import orders, pages
+from dittorows.errors import DittoError
+from tests import samples
+from tests.samples import PAGE, TABLE
+
+SIGNATURES = {
+    "pages": {
+        "is_page": "(value)", "is_table": "(value)", "filled": "(page)", "blanks_of": "(page)", "cells_of": "(page)",
+        "shared": "(table)", "printed": "(table)", "count_pages": "(table)", "nth_page": "(table, number)",
+        "page_number": "(page)",
+    },
+    "orders": {
+        "keeps": "(page, order)", "read_in": "(page, order)", "wrong_rows": "(page, order)", "hosts_of": "(page, row)",
+        "count_orders": "(page)", "nth_order": "(page, number)", "order_number": "(page, order)",
+        "sort_order": "(page, column, *, blanks_last=True)",
+    },
+}
+
+ORDER = (4, 0, 2, 1, 3)
+
+# Each function with arguments by their names, and what it returns.
+CALLS = (
+    (pages.is_page, {"value": PAGE}, True),
+    (pages.is_table, {"value": PAGE}, False),
+    (pages.filled, {"page": PAGE}, TABLE),
+    (pages.blanks_of, {"page": PAGE}, [0, 2, 2, 1, 0]),
+    (pages.cells_of, {"page": PAGE}, 10),
+    (pages.shared, {"table": TABLE}, [0, 2, 2, 1, 0]),
+    (pages.printed, {"table": TABLE}, PAGE),
+    (pages.count_pages, {"table": TABLE}, 18),
+    (pages.nth_page, {"table": TABLE, "number": 17}, PAGE),
+    (pages.page_number, {"page": PAGE}, 17),
+    (orders.keeps, {"page": PAGE, "order": ORDER}, True),
+    (orders.read_in, {"page": PAGE, "order": ORDER}, [TABLE[row] for row in ORDER]),
+    (orders.wrong_rows, {"page": PAGE, "order": (3, 0, 4, 1, 2)}, [1, 2, 3]),
+    (orders.hosts_of, {"page": PAGE, "row": 4}, [None, 0]),
+    (orders.count_orders, {"page": PAGE}, 4),
+    (orders.nth_order, {"page": PAGE, "number": 0}, ORDER),
+    (orders.order_number, {"page": PAGE, "order": ORDER}, 0),
+    (orders.sort_order, {"page": PAGE, "column": 1}, (0, 3, 4, 1, 2)),
+)
+
+
+class InterfaceTest(unittest.TestCase):
+
+    def test_each_function_is_defined_in_its_module(self):
+        for module, functions in SIGNATURES.items():
+            for name, signature in functions.items():
+                with self.subTest(name):
+                    function = getattr(importlib.import_module("dittorows." + module), name)
+                    self.assertEqual(function.__module__, "dittorows." + module)
+                    self.assertEqual(str(inspect.signature(function)), signature)
+
+    def test_each_function_is_called_here(self):
+        named = sorted(name for functions in SIGNATURES.values() for name in functions)
+        self.assertEqual(sorted(function.__name__ for function, _, _ in CALLS), named)
+
+    def test_arguments_by_name_and_by_position(self):
+        for function, arguments, answer in CALLS:
+            with self.subTest(function.__name__):
+                self.assertEqual(function(**arguments), answer)
+                self.assertEqual(function(*arguments.values()), answer)
+                backwards = dict(reversed(list(arguments.items())))
+                self.assertEqual(function(**backwards), answer)
+                self.assertIs(type(function(**arguments)), type(answer))
+
+    def test_arguments_behind_the_star_only_by_name(self):
+        self.assertEqual(orders.sort_order(page=PAGE, column=0, blanks_last=False), (1, 2, 3, 0, 4))
+        with self.assertRaises(TypeError):
+            orders.sort_order(PAGE, 0, False)
+
+    def test_a_parameter_with_a_default_may_be_omitted(self):
+        self.assertEqual(orders.sort_order(PAGE, 0), orders.sort_order(PAGE, 0, blanks_last=True))
+
+    def test_returned_lists_are_new_ones_each_time(self):
+        for function, arguments, answer in CALLS:
+            if isinstance(answer, list):
+                with self.subTest(function.__name__):
+                    first = function(**arguments)
+                    self.assertIsNot(function(**arguments), first)
+                    first.append("more")
+                    first[0] = "other"
+                    self.assertEqual(function(**arguments), answer)
+
+    def test_arguments_stay_as_they_were(self):
+        for function, arguments, answer in CALLS:
+            with self.subTest(function.__name__):
+                kept = copy.deepcopy(arguments)
+                function(**arguments)
+                self.assertEqual(arguments, kept)
+
+    def test_wrong_arguments_stay_as_they_were(self):
+        rows = [["a", "b"], [None, "c"]]
+        listed = [1, 0]
+        for function, arguments, _ in CALLS:
+            for name in arguments:
+                for wrong in (rows, listed, {"a": rows}, (rows, rows), tuple(rows)):
+                    kept = copy.deepcopy(wrong)
+                    try:
+                        self.assertIs(function(**{**arguments, name: wrong}), False)
+                    except DittoError:
+                        pass
+                    self.assertEqual(wrong, kept)
+
+    def test_equal_calls_return_equal_results(self):
+        page = samples.long_page()
+        for function in (pages.filled, pages.blanks_of, pages.page_number, orders.count_orders):
+            self.assertEqual(function(page), function(copy.deepcopy(page)))
+
+
+if __name__ == "__main__":
+    unittest.main()
