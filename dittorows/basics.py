@@ -118,3 +118,13 @@ def choice_number(indexes, sizes):
     for index, size in zip(indexes, sizes):
         number = number * size + index
     return number
+
+
+def pick(parts, number):
+    """Return the item of that one of the parts (item, size) in which a number lies, and its number within it."""
+    rest = number
+    at = 0
+    while rest >= parts[at][1]:
+        rest = rest - parts[at][1]
+        at += 1
+    return parts[at][0], rest

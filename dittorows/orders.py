@@ -1,7 +1,7 @@
 """The orders of the rows of a page: how they are read, and those that keep the page."""
 
 from dittorows.basics import check_number, check_order, check_row, choice_number, count_choices
-from dittorows.basics import is_number, nth_choice, read_rows, values_shared
+from dittorows.basics import is_number, leading_blanks, nth_choice, read_rows, values_shared
 from dittorows.errors import InvalidChoice, InvalidColumn, Loose
 from dittorows.pages import blanks_of, check_page, filled
 
@@ -31,26 +31,27 @@ def sequence_of(page):
     return [row for _, row in ranked]
 
 
+def hosts_among(page, table, ahead, row):
+    """Return the list of those rows ahead behind which a row means the same as on the page, None for the front."""
+    blanks = leading_blanks(page[row])
+    if blanks == 0:
+        return [None] + ahead
+    return [other for other in ahead if values_shared(table[other], table[row]) >= blanks]
+
+
 def list_hosts(page):
     """Return the list with, for each row in the sequence, the list of its hosts."""
     table = filled(page)
-    blanks = blanks_of(page)
     sequence = sequence_of(page)
-    hosts = []
-    for place, row in enumerate(sequence):
-        ahead = sequence[:place]
-        if blanks[row] == 0:
-            hosts.append([None] + ahead)
-        else:
-            hosts.append([other for other in ahead if values_shared(table[other], table[row]) >= blanks[row]])
-    return hosts
+    return [hosts_among(page, table, sequence[:place], row) for place, row in enumerate(sequence)]
 
 
 def hosts_of(page, row):
     """Return the list of the hosts of a row."""
     check_page(page)
     check_row(row, len(page))
-    return list_hosts(page)[sequence_of(page).index(row)]
+    sequence = sequence_of(page)
+    return hosts_among(page, filled(page), sequence[:sequence.index(row)], row)
 
 
 def host_choices(page):

@@ -1,6 +1,6 @@
 """Pages and tables for the tests, wrong values, and the definitions of the document worked out by trying everything."""
 
-from itertools import permutations, product
+from itertools import combinations, permutations, product
 
 PAGE = (("ann", "oslo", "1"), (None, None, "2"), (None, None, "3"), (None, "rome", "1"), ("bob", "rome", "1"))
 TABLE = (("ann", "oslo", "1"), ("ann", "oslo", "2"), ("ann", "oslo", "3"), ("ann", "rome", "1"), ("bob", "rome", "1"))
@@ -46,6 +46,22 @@ WITHOUT_BLANKS = (
 )
 
 NO_NUMBERS = STRANGE + (True, False, -1, -10 ** 99, (), (0,), [0], "1", "zero")
+
+# No orders of a page of five rows.
+NO_ORDERS = STRANGE + (
+    0, 1, True, False, 10 ** 99, (), (0,), (0, 1, 2, 3), (0, 1, 2, 3, 4, 5), (0, 1, 2, 3, 3), (0, 0, 0, 0, 0),
+    (1, 2, 3, 4, 5), (-1, 0, 1, 2, 3), (0, 1, 2, 3, -1), (0, 1, 2, 3, 10 ** 99), (False, 1, 2, 3, 4), (0, True, 2, 3, 4),
+    (0, 1, 2, 3, "4"), (0, 1, 2, 3, None), (0, 1, 2, 3, (4,)), (0, 1, 2, 3, [4]), (0, 1, 2, 3, {}), ((0, 1, 2, 3, 4),),
+    [0, 1, 2, 3, 4], ["0", "1"], "01234", b"01234", range(5), {0: 1, 1: 2, 2: 3, 3: 4, 4: 5}, {0, 1, 2, 3, 4},
+)
+
+# No stays of a page of five rows.
+NO_STAYS = STRANGE + (
+    0, 1, True, False, 10 ** 99, (), (5,), (-1,), (0, 5), (-1, 0), (0, 10 ** 99), (-10 ** 99, 4), (1, 0), (0, 0), (3, 3),
+    (0, 1, 1), (0, 2, 1), (4, 3, 2, 1, 0), (0, 1, 2, 3, 4, 4), (0, 1, 2, 3, 4, 5), (0,) * 300,
+    (True,), (False,), (0, True), (False, 1), (0, 1, True), ("0",), ("",), (0, "1"), (None,), (0, None), ((0,),), ([0],),
+    (0, [1]), (0, {}), (b"0",), [0], [0, 1, 2, 3, 4], "01", b"01", range(1, 3), {0: 1}, {0, 1}, {0},
+)
 
 
 def meaning(rows):
@@ -143,3 +159,59 @@ def long_page():
         blanks = most if k in (1, 3, 59) else most * (k * 7 + 3) // 11 % (most + 1)
         page.append((None,) * blanks + rows[k][blanks:])
     return tuple(page)
+
+
+def long_table():
+    """A table of 60 rows with equal rows and common beginnings of each length, none of which stand together."""
+    rows = meaning(long_page())
+    return tuple(rows[(row * 7 + 3) % 60] for row in range(60))
+
+
+def beginnings(table):
+    found = []
+    for row in table:
+        for many in range(len(row)):
+            if row[:many + 1] not in found:
+                found.append(row[:many + 1])
+    return sorted(found)
+
+
+def stand_together(table, order):
+    """Whether the rows with each beginning have places without a gap in an order."""
+    for beginning in beginnings(table):
+        places = [place for place, row in enumerate(order) if table[row][:len(beginning)] == beginning]
+        if places != list(range(places[0], places[0] + len(places))):
+            return False
+    return True
+
+
+def grouped_orders(table):
+    """All grouped orders in ascending order, by trying every order."""
+    return [order for order in permutations(range(len(table))) if stand_together(table, order)]
+
+
+def ways_to_write(page, order):
+    """The rows of a page in an order with some of the last blanks of each row written, in all ways that are right.
+
+    A list of tuples: the list of the numbers of cells that are written, and the page.
+    """
+    table = meaning(page)
+    blanks = blank_counts(page)
+    found = []
+    for counts in product(*[range(blanks[row] + 1) for row in order]):
+        rows = [page[row][:blanks[row] - many] + table[row][blanks[row] - many:] for row, many in zip(order, counts)]
+        if meaning(rows) == [table[row] for row in order]:
+            found.append((list(counts), tuple(rows)))
+    return found
+
+
+def all_stays(many):
+    """All stays of a page of so many rows, in ascending order."""
+    return sorted(stays for size in range(1, many + 1) for stays in combinations(range(many), size))
+
+
+def safe_stays(page):
+    """All safe stays in ascending order, by reading every set of rows."""
+    table = meaning(page)
+    return [stays for stays in all_stays(len(page))
+            if meaning([page[row] for row in stays]) == [table[row] for row in stays]]

@@ -5,7 +5,7 @@ import importlib
 import inspect
 import unittest
 
-from dittorows import orders, pages
+from dittorows import groups, orders, pages, removals, repairs
 from dittorows.errors import DittoError
 from tests import samples
 from tests.samples import PAGE, TABLE
@@ -20,6 +20,17 @@ SIGNATURES = {
         "keeps": "(page, order)", "read_in": "(page, order)", "wrong_rows": "(page, order)", "hosts_of": "(page, row)",
         "count_orders": "(page)", "nth_order": "(page, number)", "order_number": "(page, order)",
         "sort_order": "(page, column, *, blanks_last=True)",
+    },
+    "groups": {
+        "beginnings_of": "(table)", "fewest_cells": "(table)", "is_grouped": "(table, order)", "grouped": "(table)",
+        "count_grouped": "(table)", "nth_grouped": "(table, number)", "grouped_number": "(table, order)",
+    },
+    "repairs": {
+        "fewest_to_write": "(page, order)", "written": "(page, order)", "shown_in": "(page, order)",
+    },
+    "removals": {
+        "is_safe": "(page, stays)", "count_safe": "(page)", "nth_safe": "(page, number)",
+        "safe_number": "(page, stays)", "fewest_staying": "(page, stays)",
     },
 }
 
@@ -45,6 +56,23 @@ CALLS = (
     (orders.nth_order, {"page": PAGE, "number": 0}, ORDER),
     (orders.order_number, {"page": PAGE, "order": ORDER}, 0),
     (orders.sort_order, {"page": PAGE, "column": 1}, (0, 3, 4, 1, 2)),
+    (groups.beginnings_of, {"table": TABLE[3:]}, [
+        ("ann",), ("ann", "rome"), ("ann", "rome", "1"), ("bob",), ("bob", "rome"), ("bob", "rome", "1")]),
+    (groups.fewest_cells, {"table": TABLE}, 10),
+    (groups.is_grouped, {"table": TABLE, "order": (0, 3, 1, 2, 4)}, False),
+    (groups.grouped, {"table": TABLE[::-1]}, TABLE),
+    (groups.count_grouped, {"table": TABLE}, 24),
+    (groups.nth_grouped, {"table": TABLE, "number": 1}, (0, 2, 1, 3, 4)),
+    (groups.grouped_number, {"table": TABLE, "order": (0, 2, 1, 3, 4)}, 1),
+    (repairs.fewest_to_write, {"page": PAGE, "order": (3, 0, 4, 1, 2)}, 3),
+    (repairs.written, {"page": PAGE, "order": (3, 0, 4, 1, 2)}, (
+        ("ann", "rome", "1"), ("ann", "oslo", "1"), ("bob", "rome", "1"), ("ann", "oslo", "2"), (None, None, "3"))),
+    (repairs.shown_in, {"page": PAGE, "order": (3, 0, 4, 1, 2)}, [(3, 1), (1, 2)]),
+    (removals.is_safe, {"page": PAGE, "stays": (0, 2, 3)}, True),
+    (removals.count_safe, {"page": PAGE}, 17),
+    (removals.nth_safe, {"page": PAGE, "number": 2}, (0, 1, 2)),
+    (removals.safe_number, {"page": PAGE, "stays": (4,)}, 16),
+    (removals.fewest_staying, {"page": PAGE, "stays": (3, 4)}, (0, 3, 4)),
 )
 
 
@@ -111,8 +139,14 @@ class InterfaceTest(unittest.TestCase):
 
     def test_equal_calls_return_equal_results(self):
         page = samples.long_page()
-        for function in (pages.filled, pages.blanks_of, pages.page_number, orders.count_orders):
+        for function in (pages.filled, pages.blanks_of, pages.page_number, orders.count_orders, removals.count_safe):
             self.assertEqual(function(page), function(copy.deepcopy(page)))
+        table = samples.long_table()
+        for function in (groups.beginnings_of, groups.grouped, groups.count_grouped):
+            self.assertEqual(function(table), function(copy.deepcopy(table)))
+        for function in (repairs.written, repairs.shown_in):
+            order = tuple(range(59, -1, -1))
+            self.assertEqual(function(page, order), function(copy.deepcopy(page), tuple(list(order))))
 
 
 if __name__ == "__main__":

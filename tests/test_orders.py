@@ -11,14 +11,6 @@ from dittorows.pages import blanks_of, filled, shared
 from tests import samples
 from tests.samples import PAGE, TABLE
 
-# No orders of a page of five rows.
-NO_ORDERS = samples.STRANGE + (
-    0, 1, True, False, 10 ** 99, (), (0,), (0, 1, 2, 3), (0, 1, 2, 3, 4, 5), (0, 1, 2, 3, 3), (0, 0, 0, 0, 0),
-    (1, 2, 3, 4, 5), (-1, 0, 1, 2, 3), (0, 1, 2, 3, -1), (0, 1, 2, 3, 10 ** 99), (False, 1, 2, 3, 4), (0, True, 2, 3, 4),
-    (0, 1, 2, 3, "4"), (0, 1, 2, 3, None), (0, 1, 2, 3, (4,)), (0, 1, 2, 3, [4]), (0, 1, 2, 3, {}), ((0, 1, 2, 3, 4),),
-    [0, 1, 2, 3, 4], ["0", "1"], "01234", b"01234", range(5), {0: 1, 1: 2, 2: 3, 3: 4, 4: 5}, {0, 1, 2, 3, 4},
-)
-
 # An order that does not keep PAGE.
 LOOSE = (0, 3, 1, 2, 4)
 
@@ -94,7 +86,7 @@ class ReadTest(unittest.TestCase):
         self.assertIs(type(wrong_rows(PAGE, LOOSE)), list)
 
     def test_no_order(self):
-        for value in NO_ORDERS:
+        for value in samples.NO_ORDERS:
             for function in (keeps, read_in, wrong_rows, order_number):
                 with self.subTest(repr(value)[:80]), self.assertRaises(InvalidOrder):
                     function(PAGE, value)
