@@ -17,11 +17,16 @@ def fewest_to_write(page, order):
     return sum([number for _, number in shown_in(page, order)])
 
 
+def just_written(table, numbers):
+    """Return the rows of a table with so many blanks each, or with fewer where the row ahead does not let so many."""
+    return with_blanks(table, [min(blanks, most) for blanks, most in zip(numbers, shared(table))])
+
+
 def written(page, order):
     """Return the page in an order with just the cells written that must be."""
     rows = rows_in(page, order)
     blanks = blanks_of(page)
-    return with_blanks(rows, [min(blanks[row], most) for row, most in zip(order, shared(rows))])
+    return just_written(rows, [blanks[row] for row in order])
 
 
 def shown_in(page, order):

@@ -64,6 +64,27 @@ NO_STAYS = STRANGE + (
 )
 
 
+# No printed rows of two cells.
+NO_CELLS = STRANGE + (
+    0, 1, True, False, 10 ** 99, (), ("a",), (None,), ("a", "b", "c"), (None, "a", "b"), (None,) * 3, (None,) * 300,
+    ("a",) * 6, ("a",) * 7, ["a", "b"], [None, "b"], [None, None], "ab", "a,b", b"ab", {"a": 1, "b": 2}, (("a", "b"),),
+    ("a", None), ("", "b"), ("a", ""), (None, ""), ("A", "b"), ("a", "B"), ("a", "b" * 9), ("a" * 9, "b"), ("a", " "),
+    ("a", "b\n"), ("a", "?"), ("?", "a"), ("a", ","), ("a", 1), (0, "a"), (None, 0), (None, True), (None, False),
+    (False, "a"), ("a", b"b"), ("a", ("b",)), ("a", ["b"]), ("a", {}), ("\u0661", "a"), (None, "\u00e9"),
+)
+
+# Printed rows, as many as make a page or fewer, of which the first one has blanks: no pages.
+BLANKS_FIRST = (
+    ((None,),), ((None,), ("a",)), ((None, "a"),), ((None, None),), ((None, None), (None, "b"), ("c", "d")),
+    ((None,) * 6,), ((None,) * 6,) * 60, ((None, None, "z"),) + (("a", "b", "c"),) * 59,
+)
+
+
+def no_numbers_of(number):
+    """Values that are no numbers of so many rows, places or columns."""
+    return NO_NUMBERS + (number, number + 1, 60, 10 ** 40, 10 ** 99, slice(0, 1), str(number - 1), (number - 1,))
+
+
 def meaning(rows):
     """What rows mean: each cell is the nearest printed one in its column, itself or above; None if there is none."""
     return [tuple(nearest(rows, row, column) for column in range(len(rows[row]))) for row in range(len(rows))]

@@ -14,7 +14,7 @@ class ExamplesTest(unittest.TestCase):
 
     def test_the_examples_of_the_document(self):
         failed, tried = doctest.testfile("examples.txt")
-        self.assertEqual((failed, tried), (0, 27))
+        self.assertEqual((failed, tried), (0, 40))
 
     def test_the_examples_of_the_readme(self):
         failed, tried = doctest.testfile("../README.md")

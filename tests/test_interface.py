@@ -5,7 +5,7 @@ import importlib
 import inspect
 import unittest
 
-from dittorows import groups, orders, pages, removals, repairs
+from dittorows import console, groups, objects, orders, pages, removals, repairs, sheets, texts
 from dittorows.errors import DittoError
 from tests import samples
 from tests.samples import PAGE, TABLE
@@ -32,6 +32,24 @@ SIGNATURES = {
         "is_safe": "(page, stays)", "count_safe": "(page)", "nth_safe": "(page, number)",
         "safe_number": "(page, stays)", "fewest_staying": "(page, stays)",
     },
+    "texts": {
+        "format_rows": "(rows)", "parse_rows": "(text)", "format_order": "(order)", "parse_order": "(text)",
+    },
+}
+
+# Each class with its methods; None is a property.
+CLASSES = {
+    "objects": {"Printed": {
+        "__init__": "(self, rows)", "rows": None, "table": None, "__add__": "(self, other)", "__len__": "(self)",
+        "__getitem__": "(self, at)", "__contains__": "(self, x)", "__eq__": "(self, other)", "__call__": "(self, order)",
+    }},
+    "sheets": {"Sheet": {
+        "__init__": "(self, page)", "move": "(self, first, last, place)", "remove": "(self, row)",
+        "insert": "(self, place, cells)", "write": "(self, row, count)", "adopt": "(self)", "repair": "(self)",
+        "undo": "(self)", "wrong": "(self)", "cells_now": None, "read_now": None, "true_now": None, "__len__": "(self)",
+        "__eq__": "(self, other)", "copy_of": "(self)",
+    }},
+    "console": {"Console": {"__init__": "(self)", "execute": "(self, line)"}},
 }
 
 ORDER = (4, 0, 2, 1, 3)
@@ -73,7 +91,50 @@ CALLS = (
     (removals.nth_safe, {"page": PAGE, "number": 2}, (0, 1, 2)),
     (removals.safe_number, {"page": PAGE, "stays": (4,)}, 16),
     (removals.fewest_staying, {"page": PAGE, "stays": (3, 4)}, (0, 3, 4)),
+    (texts.format_rows, {"rows": PAGE[2:]}, ",,3\n,rome,1\nbob,rome,1"),
+    (texts.parse_rows, {"text": ",x\nb,y"}, ((None, "x"), ("b", "y"))),
+    (texts.format_order, {"order": ORDER}, "4 0 2 1 3"),
+    (texts.parse_order, {"text": "4 0 2 1 3"}, ORDER),
 )
+
+MOVED = (PAGE[3], PAGE[0], PAGE[4], PAGE[1], PAGE[2])
+
+
+def moved_sheet():
+    """A sheet of PAGE in the order (3, 0, 4, 1, 2)."""
+    sheet = sheets.Sheet(PAGE)
+    sheet.move(3, 3, 0)
+    sheet.move(4, 4, 2)
+    return sheet
+
+
+def paged_console():
+    made = console.Console()
+    made.execute("page a,x ,y b,x")
+    return made
+
+
+# What makes an object, a method of it, its arguments by their names, what it returns, and the rows or answers behind it.
+METHODS = (
+    (moved_sheet, "move", {"first": 0, "last": 1, "place": 3}, None, MOVED[2:] + MOVED[:2]),
+    (moved_sheet, "remove", {"row": 0}, TABLE[3], MOVED[1:]),
+    (moved_sheet, "insert", {"place": 5, "cells": (None, None, "4")}, None, MOVED + ((None, None, "4"),)),
+    (moved_sheet, "write", {"row": 3, "count": 1}, None, MOVED[:3] + ((None, "oslo", "2"),) + MOVED[4:]),
+    (lambda: sheets.Sheet(PAGE), "adopt", {}, [], PAGE),
+    (moved_sheet, "repair", {}, 3, repairs.written(PAGE, (3, 0, 4, 1, 2))),
+    (moved_sheet, "undo", {}, None, (PAGE[3],) + PAGE[:3] + PAGE[4:]),
+    (moved_sheet, "wrong", {}, [0, 3, 4], MOVED),
+    (moved_sheet, "copy_of", {}, moved_sheet(), MOVED),
+    (lambda: objects.Printed(PAGE), "__call__", {"order": (4, 1, 0, 2, 3)}, objects.Printed((
+        ("bob", "rome", "1"), ("ann", "oslo", "2"), ("ann", "oslo", "1"), (None, None, "3"), (None, "rome", "1"))), PAGE),
+    (paged_console, "execute", {"line": "move 0 1 1"}, "ok", "b,x a,x ,y"),
+)
+
+
+def what_it_holds(made):
+    if isinstance(made, console.Console):
+        return made.execute("rows")
+    return made.rows if isinstance(made, objects.Printed) else made.cells_now
 
 
 class InterfaceTest(unittest.TestCase):
@@ -85,6 +146,59 @@ class InterfaceTest(unittest.TestCase):
                     function = getattr(importlib.import_module("dittorows." + module), name)
                     self.assertEqual(function.__module__, "dittorows." + module)
                     self.assertEqual(str(inspect.signature(function)), signature)
+
+    def test_each_class_is_defined_in_its_module_with_its_methods(self):
+        for module, classes in CLASSES.items():
+            for name, methods in classes.items():
+                kind = getattr(importlib.import_module("dittorows." + module), name)
+                self.assertEqual((kind.__module__, kind.__bases__), ("dittorows." + module, (object,)))
+                for method, signature in methods.items():
+                    with self.subTest(name + " " + method):
+                        self.assertIn(method, vars(kind))
+                        if signature is None:
+                            self.assertIsInstance(vars(kind)[method], property)
+                        else:
+                            self.assertEqual(str(inspect.signature(vars(kind)[method])), signature)
+
+    def test_no_other_methods_are_there_for_callers(self):
+        for module, classes in CLASSES.items():
+            for name, methods in classes.items():
+                kind = getattr(importlib.import_module("dittorows." + module), name)
+                self.assertEqual([other for other in vars(kind) if not other.startswith("_") and other not in methods], [])
+
+    def test_objects_are_made_by_position_and_by_name(self):
+        self.assertEqual(objects.Printed(rows=PAGE).rows, objects.Printed(PAGE).rows)
+        self.assertEqual(sheets.Sheet(page=PAGE), sheets.Sheet(PAGE))
+        with self.assertRaises(TypeError):
+            console.Console(None)
+
+    def test_methods_by_name_and_by_position(self):
+        for make, name, arguments, answer, behind in METHODS:
+            backwards = dict(reversed(list(arguments.items())))
+            with self.subTest(name):
+                for call in (lambda method: method(*arguments.values()), lambda method: method(**arguments),
+                             lambda method: method(**backwards)):
+                    made = make()
+                    kept = copy.deepcopy(arguments)
+                    found = call(getattr(made, name))
+                    self.assertEqual((found, type(found)), (answer, type(answer)))
+                    self.assertEqual((what_it_holds(made), arguments), (behind, kept))
+
+    def test_each_method_is_called_here(self):
+        named = [method for classes in CLASSES.values() for methods in classes.values() for method in methods
+                 if methods[method] is not None and not method.startswith("__")]
+        self.assertEqual(sorted(name for _, name, _, _, _ in METHODS), sorted(named + ["__call__"]))
+
+    def test_wrong_arguments_of_methods_stay_as_they_were(self):
+        listed = [["a", "x"], [None, "y"]]
+        for make, name, arguments, _, _ in METHODS:
+            for parameter in arguments:
+                for wrong in (listed, listed[1], (listed,), {"a": listed}, tuple(listed)):
+                    kept, made = copy.deepcopy(wrong), make()
+                    holds = what_it_holds(made)
+                    with self.assertRaises(DittoError):
+                        getattr(made, name)(**{**arguments, parameter: wrong})
+                    self.assertEqual((wrong, what_it_holds(made)), (kept, holds))
 
     def test_each_function_is_called_here(self):
         named = sorted(name for functions in SIGNATURES.values() for name in functions)
